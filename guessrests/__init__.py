@@ -1,0 +1,1 @@
+"""Guessrests: when guesses from told things come to rest."""

@@ -1,0 +1,138 @@
+"""The package keeps to the plain part of Python: no clock, no chance, no files (promise [2]).
+
+This looks only for what a program can see easily; it does not stand for reading the rules.
+"""
+
+import ast
+import builtins
+import inspect
+import pathlib
+import unittest
+
+from guessrests import families, words
+
+PACKAGE = pathlib.Path(__file__).resolve().parent.parent / "guessrests"
+LIBRARY = {
+    "heapq": {"heappush", "heappop", "heapify", "heapreplace", "heappushpop"},
+    "math": {"gcd", "lcm", "isqrt", "comb", "perm", "factorial"},
+    "itertools": {
+        "product", "combinations", "permutations", "chain", "accumulate", "pairwise", "islice", "zip_longest",
+    },
+    "collections": {"defaultdict", "deque"},
+}
+ALLOWED_BUILTINS = set(
+    "len range enumerate zip min max sum abs sorted reversed int str bool bytes list tuple dict set frozenset"
+    " isinstance ord repr any all divmod pow getattr hasattr setattr iter next map type super property"
+    " staticmethod classmethod Exception ValueError TypeError KeyError IndexError LookupError ZeroDivisionError"
+    " ArithmeticError OverflowError RuntimeError NotImplementedError AttributeError StopIteration NotImplemented".split()
+)
+BARRED_NODES = (
+    ast.Global, ast.AsyncFunctionDef, ast.AsyncFor, ast.AsyncWith, ast.Await, ast.Div, ast.MatMult,
+)
+BARRED_WORDS = (
+    "register", "mro", "elements", "open", "input", "law", "version_info", "with_traceback", "add_note",
+)
+INTERFACE = {
+    words: {
+        "is_alphabet": ["text"],
+        "is_word": ["alphabet", "text"],
+        "compare_words": ["alphabet", "left", "right"],
+        "word_at": ["alphabet", "n"],
+        "number_of": ["alphabet", "word"],
+        "words_up_to": ["alphabet", "n"],
+    },
+    families: {
+        "check_family": ["family"],
+        "columns_of": ["family"],
+        "belongs": ["family", "name", "thing"],
+    },
+}
+
+
+def sources():
+    """Each file of the package with its text and its tree."""
+    for path in sorted(PACKAGE.rglob("*.py")):
+        text = path.read_text(encoding="utf-8")
+        yield path, text, ast.parse(text)
+
+
+class TestFiles(unittest.TestCase):
+    def test_the_package_holds_plain_files_only(self):
+        names = [path.name for path in PACKAGE.iterdir() if path.name != "__pycache__"]
+        self.assertIn("__init__.py", names)
+        for name in names:
+            self.assertRegex(name, r"^[a-z0-9_]+\.py$")
+
+    def test_sizes_and_characters(self):
+        for path, text, tree in sources():
+            lines = text.split("\n")
+            self.assertLessEqual(len(lines), 399, path)
+            self.assertLessEqual(max(len(line) for line in lines), 120, path)
+            self.assertRegex(text, r"\A[ -~\n]*\Z", path)
+            for node in ast.walk(tree):
+                if isinstance(node, ast.FunctionDef):
+                    self.assertLessEqual(node.end_lineno - node.lineno + 1, 40, (path, node.name))
+
+    def test_imports(self):
+        for path, _, tree in sources():
+            for node in ast.walk(tree):
+                self.assertNotIsInstance(node, ast.Import, path)
+                if isinstance(node, ast.ImportFrom):
+                    self.assertIn(node, tree.body, path)
+                    self.assertEqual(node.level, 0, path)
+                    self.check_import(path, node)
+
+    def check_import(self, path, node):
+        if node.module in LIBRARY:
+            self.assertLessEqual({alias.name for alias in node.names}, LIBRARY[node.module], path)
+        else:
+            self.assertRegex(node.module, r"^guessrests\.[a-z0-9_]+$", path)
+
+    def test_module_level(self):
+        plain = (ast.Expr, ast.ImportFrom, ast.FunctionDef, ast.ClassDef, ast.Assign)
+        for path, _, tree in sources():
+            for node in tree.body:
+                self.assertIsInstance(node, plain, path)
+                if isinstance(node, ast.Expr):
+                    self.assertIsInstance(node.value, ast.Constant, path)
+
+    def test_statements_and_values(self):
+        for path, _, tree in sources():
+            for node in ast.walk(tree):
+                self.assertNotIsInstance(node, BARRED_NODES, path)
+                if isinstance(node, ast.Constant):
+                    self.assertNotIsInstance(node.value, (float, complex), path)
+
+    def test_builtins(self):
+        barred = set(dir(builtins)) - ALLOWED_BUILTINS
+        for path, _, tree in sources():
+            for node in ast.walk(tree):
+                if isinstance(node, ast.Name):
+                    self.assertNotIn(node.id, barred, path)
+
+    def test_no_name_of_a_builtin_gets_another_meaning(self):
+        for path, _, tree in sources():
+            for node in ast.walk(tree):
+                if isinstance(node, ast.Name) and isinstance(node.ctx, ast.Store):
+                    self.assertFalse(hasattr(builtins, node.id), (path, node.id))
+                if isinstance(node, ast.arg):
+                    self.assertFalse(hasattr(builtins, node.arg), (path, node.arg))
+
+    def test_no_barred_words(self):
+        for path, _, tree in sources():
+            for node in ast.walk(tree):
+                for field in ("id", "attr", "arg", "name"):
+                    self.assertNotIn(getattr(node, field, None), BARRED_WORDS, path)
+
+
+class TestInterface(unittest.TestCase):
+    def test_names_and_arguments(self):
+        for module, functions in INTERFACE.items():
+            for name, arguments in functions.items():
+                function = getattr(module, name)
+                self.assertEqual(list(inspect.signature(function).parameters), arguments, name)
+                self.assertEqual(function.__module__, module.__name__, name)
+
+
+if __name__ == "__main__":
+    unittest.main()

@@ -18,6 +18,11 @@ COLUMNS = {
         ("", "a"), ("", "b"), ("", "c"),
     ),
     ("ab", "a"): (("a", "a"), ("a", ""), ("b", "a"), ("b", ""), ("", "a")),
+    ("ab", "ab"): (
+        ("a", "a"), ("a", "b"), ("a", ""),
+        ("b", "a"), ("b", "b"), ("b", ""),
+        ("", "a"), ("", "b"),
+    ),
     ("cd", "xy"): (
         ("c", "x"), ("c", "y"), ("c", ""),
         ("d", "x"), ("d", "y"), ("d", ""),
@@ -79,3 +84,11 @@ def random_family(seed):
 def random_word(draw, alphabet, longest):
     """A word with at most so many letters."""
     return "".join(draw.choice(alphabet) for _ in range(draw.randint(0, longest)))
+
+
+def family_with(alphabets, count, seed):
+    """A family with these alphabets and that many states, the same for the same seed."""
+    draw = random.Random(f"{alphabets} {count} {seed}")
+    rows = random_rows(draw, alphabets, count)
+    marks = tuple(state for state in range(count) if draw.random() < 0.5)
+    return family_of(alphabets, draw.randrange(count), marks, rows)

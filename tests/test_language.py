@@ -9,7 +9,7 @@ import inspect
 import pathlib
 import unittest
 
-from guessrests import families, words
+from guessrests import bounds, conditions, families, names, sure, words
 
 PACKAGE = pathlib.Path(__file__).resolve().parent.parent / "guessrests"
 LIBRARY = {
@@ -45,6 +45,37 @@ INTERFACE = {
         "check_family": ["family"],
         "columns_of": ["family"],
         "belongs": ["family", "name", "thing"],
+    },
+    names: {
+        "within": ["family", "name", "other"],
+        "alike": ["family", "name", "other"],
+        "parting_thing": ["family", "name", "other"],
+        "things_up_to": ["family", "name", "n"],
+        "thing_at": ["family", "name", "n"],
+        "least_new_thing": ["family", "name", "things"],
+        "count_of": ["family", "name"],
+        "least_alike": ["family", "name"],
+    },
+    conditions: {
+        "check_condition": ["condition", "free"],
+        "is_true": ["family", "condition"],
+        "holds": ["family", "condition", "free", "values"],
+        "least_value": ["family", "condition", "free"],
+        "value_at": ["family", "condition", "free", "n"],
+        "least_row": ["family", "condition", "free"],
+        "count_values": ["family", "condition", "free"],
+    },
+    bounds: {
+        "trap_for": ["family", "name", "n"],
+        "is_bound": ["family", "name", "n"],
+        "least_bound": ["family", "name"],
+        "verdict": ["family"],
+    },
+    sure: {
+        "unlike_holder": ["family", "name", "n"],
+        "is_sure": ["family", "name", "n"],
+        "least_sure": ["family", "name"],
+        "first_verdict": ["family"],
     },
 }
 

@@ -1,7 +1,7 @@
 """Traps and bounds of names, and whether a family rests."""
 
 from guessrests.ordering import least_word
-from guessrests.traps import caught_for_ever, least_free_length, traps
+from guessrests.traps import least_free_length, least_name_caught, traps
 from guessrests.values import value_of
 from guessrests.words import words_up_to
 
@@ -33,4 +33,4 @@ def _least_without_bound(family):
     for name in words_up_to(family[0], 1):
         if least_bound(family, name) is None:
             return name
-    return value_of(family, "name", least_word(caught_for_ever(family, traps(family, None, None))))
+    return value_of(family, "name", least_name_caught(family, traps(family, None, None)))

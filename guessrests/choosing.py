@@ -1,14 +1,15 @@
 """Machines with a choice: what is left of a relation when the word on one track may be any.
 
 A state of such a machine can have several next states, and a row of words is accepted if
-some way through the machine accepts it. The states with the same ended tracks are a group;
-a set of states of one group is a number, whose bit k is 1 if the k-th state of the group is
-in the set. The number -1 stands for a set that accepts all, 0 for one that accepts nothing.
+some way through the machine accepts it. The states that can come into one set of states are
+a group; a set of states of one group is a number, whose bit k is 1 if the k-th state of the
+group is in the set. The number -1 stands for a set that accepts all, 0 for the empty one.
 """
 
 from guessrests.columns import (
-    all_ended, columns_from, ended_behind, ended_without, places_of, places_of_lone_letters, with_value, without_track,
+    all_ended, columns_from, ended_without, places_of, places_of_lone_letters, with_value, without_track,
 )
+from guessrests.grouping import groups_that_meet
 from guessrests.relations import ALL
 
 ACCEPTS_ALL = -1
@@ -17,28 +18,25 @@ ACCEPTS_ALL = -1
 class Choices:
     """The machine of a relation in which the word on one track is open.
 
-    `start` is the set of the start state. For each number of ended tracks, `behind` has the
-    list of the ended tracks behind each column, `marks` the set of the marked states of the
-    group, and `rows` for each of its states the list of the sets behind each column.
+    `start` is the group and the set of the start. For each group, `ended` has the ended tracks,
+    `marks` the set of the marked states, `rows` for each state the list of the sets that follow
+    it, and `behind` the list of the groups of these sets, with None where they have no states.
     """
 
     def __init__(self, relation, track):
         place = relation.tracks.index(track)
         self.tracks = without_track(relation.tracks, place)
         self.sizes = without_track(relation.sizes, place)
-        # Nothing follows any more where all the other words have ended, so that is no group.
-        groups = [[] for _ in range(all_ended(self.sizes))]
-        bits = [0, ACCEPTS_ALL] + [0] * (len(relation.rows) - 2)
-        for state in range(ALL + 1, len(relation.rows)):
-            ended = ended_without(relation.ended[state], place)
-            if ended < len(groups):
-                bits[state] = 1 << len(groups[ended])
-                groups[ended].append(state)
+        targets = _targets(relation, place)
+        groups, self.behind = groups_that_meet(targets, relation.start)
+        group_of = {state: number for number, group in enumerate(groups) for state in group}
+        bits = {state: 1 << at for group in groups for at, state in enumerate(group)}
+        bits[ALL] = ACCEPTS_ALL
         accepting = accepting_alone(relation, place)
-        self.start = bits[relation.start]
-        self.behind = [_all_behind(self.sizes, ended) for ended in range(len(groups))]
+        self.start = (group_of[relation.start], bits[relation.start])
+        self.ended = [ended_without(relation.ended[group[0]], place) for group in groups]
         self.marks = [_set_of(bits, [state for state in group if accepting[state]]) for group in groups]
-        self.rows = [_rows_of_group(relation, place, group, bits) for group in groups]
+        self.rows = [[[_set_of(bits, chosen) for chosen in targets[state]] for state in group] for group in groups]
 
 
 def accepting_alone(relation, place):
@@ -81,11 +79,6 @@ def members_of(chosen):
     return members
 
 
-def _all_behind(sizes, ended):
-    """Return for each column that can follow which tracks have ended behind it."""
-    return [ended_behind(sizes, column) for column in columns_from(sizes, ended)]
-
-
 def _set_of(bits, states):
     """Return the set of the states."""
     chosen = 0
@@ -94,17 +87,18 @@ def _set_of(bits, states):
     return chosen
 
 
-def _rows_of_group(relation, place, group, bits):
-    """Return for each state of the group the list of the sets of its next states."""
+def _targets(relation, place):
+    """Return for each state and each column of the other tracks the list of the next states, without NOTHING."""
     places = {}
-    rows = []
-    for state in group:
+    targets = [[], []]
+    for state in range(ALL + 1, len(relation.rows)):
         ended = relation.ended[state]
         if ended not in places:
             places[ended] = _places_with_any(relation.sizes, place, ended)
         row = relation.rows[state]
-        rows.append([_set_of(bits, [row[at] for at in group_of_places]) for group_of_places in places[ended]])
-    return rows
+        found = [[row[at] for at in column_places if row[at] >= ALL] for column_places in places[ended]]
+        targets.append([[ALL] if ALL in chosen else chosen for chosen in found])
+    return targets
 
 
 def _places_with_any(sizes, place, ended):

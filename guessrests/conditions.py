@@ -1,9 +1,9 @@
 """Conditions: whether they are valid, and for which values they hold."""
 
-from guessrests.deciding import holds_for, relation_of
+from guessrests.deciding import holds_for, least_word_of, relation_of
 from guessrests.errors import NoCondition
 from guessrests.leastrows import least_row_of_words
-from guessrests.ordering import Ranking, count_of_words, least_word
+from guessrests.ordering import Ranking, count_of_words
 from guessrests.values import size_of, value_of
 from guessrests.words import is_word
 
@@ -28,7 +28,7 @@ def holds(family, condition, free, values):
 
 def least_value(family, condition, free):
     """Return the least value for which the condition holds, or None."""
-    return value_of(family, free[0][1], least_word(relation_of(family, condition, free)))
+    return value_of(family, free[0][1], least_word_of(family, condition, free))
 
 
 def value_at(family, condition, free, n):

@@ -1,40 +1,86 @@
-"""The relations of whole conditions."""
+"""Whether whole conditions hold, and their relations."""
 
 from guessrests.atoms import belonging, earlier_word, equal_words, no_longer
 from guessrests.fixing import with_word
-from guessrests.joining import both_hold
+from guessrests.joining import both_hold, either_holds
+from guessrests.ordering import least_word
 from guessrests.projecting import each_word, some_word
 from guessrests.relations import ALL, NOTHING, opposite_relation, plain_relation
-from guessrests.translating import Translation
+from guessrests.searching import least_row_without
+from guessrests.translating import Translation, opposite_part
 from guessrests.values import letters_of, size_of
 
 
 def relation_of(family, condition, free):
     """Return the relation of the values of the told variables, which have the tracks 0, 1 and so on."""
-    return _relation_with_words(family, condition, free, {})
+    translation = Translation(condition, free)
+    return Decider(family, translation.kinds, {}).relation_of_part(translation.part)
+
+
+def least_word_of(family, condition, free):
+    """Return the word that stands for the least value of the one told variable, or None."""
+    translation = Translation(condition, free)
+    return Decider(family, translation.kinds, {}).least_row(translation.part)
 
 
 def holds_for(family, condition, free, values):
     """Tell if the condition holds for these values of the told variables."""
+    translation = Translation(condition, free)
     words = {}
     for track, pair in enumerate(free):
         words[track] = letters_of(family, pair[1], values[track])
-    return _relation_with_words(family, condition, free, words).start == ALL
-
-
-def _relation_with_words(family, condition, free, words):
-    """Return the relation of the condition, in which the tracks of `words` have these words."""
-    translation = Translation(condition, free)
-    return Decider(family, translation.kinds, words).relation_of_part(translation.part)
+    return Decider(family, translation.kinds, words).is_true(translation.part)
 
 
 class Decider:
-    """Makes the relations of the parts of one condition, in the form of Translation."""
+    """Decides the parts of one condition, in the form of Translation; the tracks of `words` have told words."""
 
     def __init__(self, family, kinds, words):
         self.family = family
         self.kinds = kinds
         self.words = words
+
+    def is_true(self, part):
+        """Tell if a part holds in which all variables are bound or have told words."""
+        if part[0] in ("both", "either"):
+            # The first inner part that is not as "both" or "either" asks settles it.
+            goes_on = part[0] == "both"
+            for inner in sorted(part[1], key=_weight_of):
+                if self.is_true(inner) != goes_on:
+                    return not goes_on
+            return goes_on
+        if part[0] == "some":
+            return self._can_hold(part[2])
+        if part[0] == "each":
+            return not self._can_hold(opposite_part(part[2]))
+        return self._relation_of_atom(part).start == ALL
+
+    def _can_hold(self, part):
+        """Tell if a part holds for some values of the variables that are not bound in it and have no told words."""
+        if part[0] == "some":
+            return self._can_hold(part[2])
+        if part[0] == "either":
+            for inner in sorted(part[1], key=_weight_of):
+                if self._can_hold(inner):
+                    return True
+            return False
+        return self.least_row(part) is not None
+
+    def least_row(self, part):
+        """Return the columns of the least row of words for which the part holds (least_row_without), or None."""
+        parts = part[1] if part[0] == "both" else (part,)
+        heaviest = None
+        for inner in sorted(parts, key=_weight_of):
+            if inner[0] == "each":
+                heaviest = inner
+        if heaviest is None:
+            return least_word(self.relation_of_part(part))
+        rest = self._all_hold([inner for inner in parts if inner != heaviest], True)
+        if rest.start == NOTHING:
+            return None
+        # All that "each" asks for holds where there is no word for which it fails.
+        failing = opposite_relation(self.relation_of_part(heaviest[2]))
+        return least_row_without(either_holds(opposite_relation(rest), failing), heaviest[1])
 
     def relation_of_part(self, part):
         """Return the relation of a part."""

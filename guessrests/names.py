@@ -1,18 +1,15 @@
 """Single names: their things, and how two of them compare."""
 
-from guessrests.atoms import belonging, no_longer
-from guessrests.fixing import with_word
-from guessrests.joining import either_holds, just_one_holds
-from guessrests.ordering import Ranking, count_of_words, least_word, words_with_at_most
-from guessrests.projecting import some_word
+from guessrests.atoms import belonging
+from guessrests.joining import just_one_holds
+from guessrests.ordering import Ranking, count_of_words, words_with_at_most
 from guessrests.readings import least_thing_where, things_of_name
-from guessrests.relations import opposite_relation
+from guessrests.searching import least_row_without
 from guessrests.values import value_of
 
 # The tracks of the relations that are made here.
 _OTHER = 0
 _THING = 1
-_LENGTH = 2
 
 
 def within(family, name, other):
@@ -64,10 +61,6 @@ def count_of(family, name):
 
 def least_alike(family, name):
     """Return the least name that is alike with the name."""
-    size = len(family[0])
     own = things_of_name(family, name, _THING)
     unlike = just_one_holds(own, belonging(family, _THING, _OTHER))
-    # The name is alike with itself, so longer names need no look.
-    short = with_word(no_longer(_OTHER, size, _LENGTH, 1), _LENGTH, [0] * len(name))
-    wrong = some_word(either_holds(unlike, opposite_relation(short)), _THING)
-    return value_of(family, "name", least_word(opposite_relation(wrong)))
+    return value_of(family, "name", least_row_without(unlike, _THING))

@@ -4,14 +4,17 @@ from guessrests.relations import ALL, NOTHING
 
 
 def least_word(relation):
-    """Return the least word, or None if there is none."""
+    """Return the least word, or None if there is none.
+
+    For more tracks it is the first one of the shortest rows, as a list of the places of its columns.
+    """
     found = [(relation.start, None, None)]
     seen = {relation.start: True}
     at = 0
     while at < len(found):
         state = found[at][0]
         if relation.marks[state]:
-            return _way_to(found, at)
+            return way_to(found, at)
         for letter, target in enumerate(relation.rows[state]):
             if target != NOTHING and target not in seen:
                 seen[target] = True
@@ -20,8 +23,8 @@ def least_word(relation):
     return None
 
 
-def _way_to(found, at):
-    """Return the letters that lead to the place in a list of (state, place before, letter)."""
+def way_to(found, at):
+    """Return the letters that lead to a place in a list of (state, place before, letter)."""
     letters = []
     place = at
     while found[place][1] is not None:

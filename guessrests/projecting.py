@@ -1,24 +1,26 @@
 """Relations that hold for some word, or for each word, on one track."""
 
 from guessrests.choosing import ACCEPTS_ALL, Choices, accepting_alone, followers
-from guessrests.pruning import Pruning
+from guessrests.endings import endings_of
 from guessrests.relations import ALL, NOTHING, is_plain, opposite_relation, plain_relation, shrunk_relation
 
-# A machine with more sets than this is built again with pruned ones: to prepare them takes some time.
-_MANY = 300
-_MANY_FOR_EACH = 3
+# How many sets or endings are tried at first, besides some for each state, and how the number grows.
+_FEW = 300
+_FEW_FOR_EACH = 3
+GROWTH = 8
 
 
 class Numbering:
-    """The numbers of the sets of states that were met, with or without pruning."""
+    """The numbers of the sets of states that were met, one for all sets that accept the same by the endings."""
 
-    def __init__(self, pruning):
-        self.pruning = pruning
+    def __init__(self, endings):
+        self.endings = endings
         self.numbers = {}
+        self.numbers_of_endings = {}
         self.found = []
 
     def number_of(self, key):
-        """Return the number of a pair of the ended tracks and a set."""
+        """Return the number of a group and a set."""
         number = self.numbers.get(key)
         if number is None:
             number = self._new_number(key)
@@ -26,13 +28,21 @@ class Numbering:
         return number
 
     def _new_number(self, key):
-        """Return the number of a pair that was not met in this form before."""
-        ended, chosen = key
-        kept = chosen if self.pruning is None else self.pruning.pruned(ended, chosen)
-        if kept <= 0:
-            return ALL if kept == ACCEPTS_ALL else NOTHING
-        if kept != chosen:
-            return self.number_of((ended, kept))
+        """Return the number of a set that was not met before."""
+        group, chosen = key
+        if chosen in (0, ACCEPTS_ALL):
+            return ALL if chosen else NOTHING
+        if self.endings is None:
+            return self._number_added(key)
+        kept, accepted = self.endings.needed(group, chosen)
+        if accepted == self.endings.full[group]:
+            return ALL
+        if (group, accepted) not in self.numbers_of_endings:
+            self.numbers_of_endings[(group, accepted)] = self._number_added((group, kept))
+        return self.numbers_of_endings[(group, accepted)]
+
+    def _number_added(self, key):
+        """Return the new number of a set."""
         self.found.append(key)
         return len(self.found) + ALL
 
@@ -44,8 +54,13 @@ def some_word(relation, track):
     if len(relation.tracks) == 1:
         return plain_relation(ALL if accepting_alone(relation, 0)[relation.start] else NOTHING)
     choices = Choices(relation, track)
-    most = _MANY + _MANY_FOR_EACH * len(relation.rows)
-    return _relation_of_sets(choices, None, most) or _relation_of_sets(choices, Pruning(choices), None)
+    most = first_try(relation)
+    while True:
+        # Often there are few sets. If not, the endings lead to no more sets than are needed, if they are few.
+        joined = _relation_of_sets(choices, None, most) or relation_by_endings(choices, most)
+        if joined is not None:
+            return joined
+        most *= GROWTH
 
 
 def each_word(relation, track):
@@ -53,19 +68,30 @@ def each_word(relation, track):
     return opposite_relation(some_word(opposite_relation(relation), track))
 
 
-def _relation_of_sets(choices, pruning, most):
+def first_try(relation):
+    """Return how many sets or endings are tried at first for this relation."""
+    return _FEW + _FEW_FOR_EACH * len(relation.rows)
+
+
+def relation_by_endings(choices, most):
+    """Return the relation that the machine with choices accepts, or None if it has more kinds of endings."""
+    endings = endings_of(choices, most)
+    return None if endings is None else _relation_of_sets(choices, endings, None)
+
+
+def _relation_of_sets(choices, endings, most):
     """Return the relation that the machine with choices accepts, or None if it takes more than `most` sets."""
-    numbering = Numbering(pruning)
-    start = numbering.number_of((0, choices.start))
-    all_states_ended = [0, 0]
+    numbering = Numbering(endings)
+    start = numbering.number_of(choices.start)
+    ended = [0, 0]
     marks = [False, True]
     rows = [(), ()]
     while len(rows) < len(numbering.found) + 2:
         if most is not None and len(rows) > most:
             return None
-        ended, chosen = numbering.found[len(rows) - 2]
-        follow = followers(choices.rows[ended], chosen)
-        all_states_ended.append(ended)
-        marks.append((chosen & choices.marks[ended]) != 0)
-        rows.append([numbering.number_of(key) for key in zip(choices.behind[ended], follow)])
-    return shrunk_relation(choices.tracks, choices.sizes, start, all_states_ended, marks, rows)
+        group, chosen = numbering.found[len(rows) - 2]
+        follow = followers(choices.rows[group], chosen)
+        ended.append(choices.ended[group])
+        marks.append((chosen & choices.marks[group]) != 0)
+        rows.append([numbering.number_of(key) for key in zip(choices.behind[group], follow)])
+    return shrunk_relation(choices.tracks, choices.sizes, start, ended, marks, rows)

@@ -1,10 +1,9 @@
 """Sure lengths of names, and whether a family is sure."""
 
-from guessrests.joining import either_holds
 from guessrests.ordering import least_word
-from guessrests.traps import caught_for_ever, least_free_length, outdone_names, unlike_holders
+from guessrests.traps import least_free_length, least_name_caught, outdone_names, unlike_holders
 from guessrests.values import value_of
-from guessrests.words import words_up_to
+from guessrests.words import number_of, words_up_to
 
 
 def unlike_holder(family, name, n):
@@ -35,5 +34,6 @@ def _least_without_sure(family):
         if least_sure(family, name) is None:
             return name
     # A name that lies within an unlike one has no sure length; unlike_holders leaves these out.
-    others = caught_for_ever(family, unlike_holders(family, None, None))
-    return value_of(family, "name", least_word(either_holds(outdone_names(family), others)))
+    words = [least_word(outdone_names(family)), least_name_caught(family, unlike_holders(family, None, None))]
+    names = [value_of(family, "name", word) for word in words if word is not None]
+    return min(names, key=lambda name: number_of(family[0], name), default=None)

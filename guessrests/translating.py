@@ -47,6 +47,15 @@ def tracks_of(part):
     return sorted(set(part[1:3]))
 
 
+def opposite_part(part):
+    """Return the part that holds where this one does not."""
+    if part[0] in ("both", "either"):
+        return _OTHER[part[0]], tuple([opposite_part(inner) for inner in part[1]])
+    if part[0] in ("some", "each"):
+        return _OTHER[part[0]], part[1], opposite_part(part[2])
+    return part[0], part[1], part[2], not part[3]
+
+
 def _joined(word, parts):
     """Return the part that joins one or more parts by "both" or "either"."""
     flat = []

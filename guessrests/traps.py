@@ -10,10 +10,10 @@ much less to tell apart.
 from guessrests.atoms import belonging, no_longer
 from guessrests.fixing import with_word
 from guessrests.joining import both_hold, either_holds, just_one_holds
-from guessrests.ordering import least_word
-from guessrests.projecting import each_word, some_word
+from guessrests.projecting import some_word
 from guessrests.readings import things_of_name
 from guessrests.relations import ALL, opposite_relation, plain_relation
+from guessrests.searching import least_row_without
 from guessrests.values import letters_of, size_of
 
 NAME = 0
@@ -50,15 +50,15 @@ def outdone_names(family):
     return _outdone(missing, further)
 
 
-def caught_for_ever(family, catching):
-    """Return the relation of the names for which `catching`, with nothing told, holds another name at each length."""
-    caught = some_word(catching, OTHER)
-    return each_word(either_holds(caught, opposite_relation(_long_enough(family, None))), LENGTH)
+def least_name_caught(family, catching):
+    """Return the word of the least name for which `catching`, with nothing told, holds another name at each length."""
+    free = opposite_relation(some_word(catching, OTHER))
+    return least_row_without(both_hold(free, _long_enough(family, None)), LENGTH)
 
 
 def least_free_length(catching):
     """Return the least length for which `catching`, with a told name, holds no other name, or None."""
-    word = least_word(opposite_relation(some_word(catching, OTHER)))
+    word = least_row_without(catching, OTHER)
     return None if word is None else len(word)
 
 

@@ -4,7 +4,7 @@ from guessrests.choosing import ACCEPTS_ALL, Choices, accepting_alone, followers
 from guessrests.endings import endings_of
 from guessrests.relations import ALL, NOTHING, is_plain, opposite_relation, plain_relation, shrunk_relation
 
-# How many sets or endings are tried at first, besides some for each state, and how the number grows.
+# How many sets are tried at first, besides some for each state, and how the number grows.
 _FEW = 300
 _FEW_FOR_EACH = 3
 GROWTH = 8
@@ -56,8 +56,8 @@ def some_word(relation, track):
     choices = Choices(relation, track)
     most = first_try(relation)
     while True:
-        # Often there are few sets. If not, the endings lead to no more sets than are needed, if they are few.
-        joined = _relation_of_sets(choices, None, most) or relation_by_endings(choices, most)
+        # Often there are few sets. If not, the endings, if they are few, lead to no more sets than are needed.
+        joined = _relation_of_sets(choices, None, most) or relation_by_endings(choices, most * GROWTH)
         if joined is not None:
             return joined
         most *= GROWTH
@@ -69,7 +69,7 @@ def each_word(relation, track):
 
 
 def first_try(relation):
-    """Return how many sets or endings are tried at first for this relation."""
+    """Return how many sets are tried at first for this relation."""
     return _FEW + _FEW_FOR_EACH * len(relation.rows)
 
 

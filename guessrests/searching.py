@@ -22,7 +22,7 @@ def least_row_without(relation, track):
         search = Search(choices, most)
         if search.is_over:
             return search.columns
-        joined = relation_by_endings(choices, most)
+        joined = relation_by_endings(choices, most * GROWTH)
         if joined is not None:
             return least_word(opposite_relation(joined))
         most *= GROWTH

@@ -244,6 +244,16 @@ class TestIsTrue(unittest.TestCase):
             self.check(family, ("some", "i", "name", ("each", "x", "thing", IN)), expected)
             self.check(family, ("each", "i", "name", ("some", "x", "thing", IN)), expected)
 
+    def test_no_marks_and_all_marks(self):
+        same_sets = ("each", "i", "name", ("each", "j", "name", is_alike("i", "j")))
+        for seed in range(20):
+            family = family_with(("ab", "ab"), 4, seed)
+            for marks in ((), (0, 1, 2, 3)):
+                marked = family[:3] + (marks,) + family[4:]
+                self.check(marked, same_sets, True)
+                self.check(marked, ("some", "i", "name", ("some", "x", "thing", IN)), marks != ())
+                self.check(marked, ("each", "i", "name", ("each", "x", "thing", IN)), marks != ())
+
     def test_the_innermost_one_binds(self):
         # The name that is bound last has the thing; the outer one need not.
         empty = ("each", "x", "thing", ("not", IN))

@@ -224,6 +224,23 @@ class TestThingsOfAName(unittest.TestCase):
                 self.assertEqual(thing_at(plain_family(alphabets, (0,)), "", n), word_at(alphabets[1], n))
                 self.assertIsNone(thing_at(plain_family(alphabets, ()), alphabets[0], n))
 
+    def test_no_marks_and_all_marks(self):
+        for seed in range(40):
+            family = random_family(seed)[0]
+            draw = random.Random(seed)
+            name, other = random_word(draw, family[0], 60), random_word(draw, family[0], 5)
+            for marks in ((), tuple(range(len(family[4])))):
+                marked = family[:3] + (marks,) + family[4:]
+                self.assertEqual(count_of(marked, name), None if marks else 0)
+                self.assertEqual(things_up_to(marked, name, 2), tuple(words_of(family[1], 2)) if marks else ())
+                for n in (-1, 0, 5, 1000):
+                    self.assertEqual(thing_at(marked, name, n), word_at(family[1], n) if marks else None)
+                self.assertEqual(least_new_thing(marked, name, [""]), family[1][0] if marks else None)
+                self.assertIs(within(marked, name, other), True)
+                self.assertIs(alike(marked, name, other), True)
+                self.assertIsNone(parting_thing(marked, name, other))
+                self.assertEqual(least_alike(marked, name), "")
+
     def test_rare_things(self):
         # To each name belong the things with a multiple of five letters.
         rows = [{column: (state + 1) % 5 if column[1] else state for column in COLUMNS["a", "b"]} for state in range(5)]

@@ -94,6 +94,15 @@ class TestSureLengths(unittest.TestCase):
             for marks in ((), (0,)):
                 self.assertEqual(least_sure(plain_family(alphabets, marks), alphabets[0]), 0)
 
+    def test_no_marks_and_all_marks(self):
+        for seed in range(30):
+            family = random_family(seed)[0]
+            for marks in ((), tuple(range(len(family[4])))):
+                marked = family[:3] + (marks,) + family[4:]
+                self.assertEqual(least_sure(marked, family[0] * 15), 0)
+                self.assertIsNone(unlike_holder(marked, family[0], 0))
+                self.assertEqual(first_verdict(marked), ("sure",))
+
     def test_least_sure_and_is_sure_agree(self):
         for oracle in oracles():
             for name in oracle.names:

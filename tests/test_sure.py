@@ -140,6 +140,26 @@ class TestFirstVerdict(unittest.TestCase):
         self.assertEqual(verdict(family), ("rests",))
         self.assertEqual(first_verdict(family), ("unsure", ""))
 
+    def test_longer_names_that_lie_within_no_other_one(self):
+        # In the first two families no name lies within an unlike one; in the last one baaa is the first that does.
+        both = ("ab", "ab", 1, (1, 2), (
+            (2, 2, 0, 1, 0, 3, 2, 3), (3, 2, 0, 0, 2, 3, 1, 3), (2, 2, 3, 2, 2, 2, 0, 2), (3, 2, 2, 0, 0, 3, 2, 0),
+        ))
+        families = (
+            (("a", "b", 0, (2,), ((1, 1, 2), (2, 0, 0), (0, 2, 1))), "aa", ["", "a"]),
+            (("a", "b", 0, (0, 1, 2), ((1, 2, 4), (3, 0, 2), (1, 0, 4), (2, 3, 1), (0, 2, 1))), "aa", ["", "a"]),
+            (both, "ba", ["", "a", "b", "aa", "ab"]),
+        )
+        for family, name, earlier in families:
+            self.assertEqual(first_verdict(family), ("unsure", name))
+            for other in earlier:
+                self.assertIsNotNone(least_sure(family, other))
+            self.assertIsNone(least_sure(family, name))
+            for n in range(12):
+                holder = unlike_holder(family, name, n)
+                self.assertIsNotNone(holder)
+                self.assertIsNotNone(parting_thing(family, name, holder))
+
     def test_a_long_first_name_that_is_unsure(self):
         # The names have the one thing of their own length; but from aaa on all have one thing more.
         steps = (

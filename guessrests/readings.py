@@ -52,7 +52,11 @@ def least_thing_where(family, names, is_wanted):
 
     It is asked about the list that tells for each of the names whether the thing belongs to it.
     """
-    readers = [ReadName(family, name) for name in names]
+    return least_thing_read([ReadName(family, name) for name in names], family[1], is_wanted)
+
+
+def least_thing_read(readers, alphabet, is_wanted):
+    """Return the least thing for which is_wanted holds of what these machines tell of it, or None."""
     found = [("", tuple([reader.start for reader in readers]))]
     seen = {found[0][1]: True}
     at = 0
@@ -61,7 +65,7 @@ def least_thing_where(family, names, is_wanted):
         at += 1
         if is_wanted([reader.accepts(state) for reader, state in zip(readers, states)]):
             return thing
-        for value, letter in enumerate(family[1]):
+        for value, letter in enumerate(alphabet):
             behind = tuple([reader.step(state, value) for reader, state in zip(readers, states)])
             if behind not in seen:
                 seen[behind] = True

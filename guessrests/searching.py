@@ -1,9 +1,35 @@
-"""The least row of words for which there is no word on a further track, without all of its machine."""
+"""The least row of words for which there is some word, or no word, on a further track, without all of its machine."""
 
 from guessrests.choosing import ACCEPTS_ALL, Choices, accepting_alone, followers
 from guessrests.ordering import least_word, way_to
-from guessrests.projecting import GROWTH, first_try, relation_by_endings
+from guessrests.projecting import GROWTH, first_try, relation_by_endings, some_word
 from guessrests.relations import is_plain, opposite_relation
+
+
+def least_row_with(relation, track):
+    """Return the columns of the least row of the other words with which the relation holds for some word on the track.
+
+    They are as those of least_row_without.
+    """
+    if is_plain(relation) or len(relation.tracks) == 1 or track not in relation.tracks:
+        return least_word(some_word(relation, track))
+    choices = Choices(relation, track)
+    found = [(choices.start, None, None)]
+    # What a state accepts is accepted behind the first row that leads to it, so later ones need not be tried.
+    met = [0 for _ in choices.rows]
+    at = 0
+    while at < len(found):
+        group, chosen = found[at][0]
+        if chosen == ACCEPTS_ALL or chosen & choices.marks[group]:
+            return way_to(found, at)
+        for column, (behind, states) in enumerate(zip(choices.behind[group], followers(choices.rows[group], chosen))):
+            if states == ACCEPTS_ALL:
+                found.append(((behind, states), at, column))
+            elif states and states & ~met[behind]:
+                found.append(((behind, states & ~met[behind]), at, column))
+                met[behind] |= states
+        at += 1
+    return None
 
 
 def least_row_without(relation, track):
@@ -61,7 +87,7 @@ class Search:
             return
         if chosen:
             least_sets = self.least_sets[group]
-            if any([old & chosen == old for old in least_sets]):
+            if any(old & chosen == old for old in least_sets):
                 return
             self.least_sets[group] = [old for old in least_sets if old & chosen != chosen] + [chosen]
         self.found.append((key, at, column))

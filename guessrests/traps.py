@@ -90,3 +90,18 @@ def _outdone(missing, further):
     """Return the relation of the names that lack nothing of another one to which something further belongs."""
     holding = opposite_relation(some_word(missing, _THING))
     return some_word(some_word(both_hold(further, holding), _THING), OTHER)
+
+
+def names_above(family, name, track):
+    """Return the relation of the names, on the track, within which the name lies and that are not alike with it."""
+    own = things_of_name(family, name, _THING)
+    other = belonging(family, _THING, track)
+    missing = both_hold(own, opposite_relation(other))
+    further = both_hold(other, opposite_relation(own))
+    return both_hold(some_word(further, _THING), opposite_relation(some_word(missing, _THING)))
+
+
+def names_below(family):
+    """Return the relation of the names and the other names that lie within them and are not alike with them."""
+    missing, further, _ = _differences(family, None)
+    return both_hold(some_word(missing, _THING), opposite_relation(some_word(further, _THING)))

@@ -9,7 +9,10 @@ import inspect
 import pathlib
 import unittest
 
-from guessrests import bounds, conditions, families, names, sure, words
+from guessrests import (
+    bounds, comparing, conditions, doubling, errors, families, guessing, listening, names, once, reading, sure, telling,
+    words, writing,
+)
 
 PACKAGE = pathlib.Path(__file__).resolve().parent.parent / "guessrests"
 LIBRARY = {
@@ -77,7 +80,40 @@ INTERFACE = {
         "least_sure": ["family", "name"],
         "first_verdict": ["family"],
     },
+    guessing: {
+        "guess": ["family", "things"],
+        "first_guess": ["family", "things"],
+        "guess_of_both": ["family", "yes", "no"],
+    },
+    comparing: {
+        "opposite": ["family"],
+        "swapped": ["family"],
+        "difference": ["family", "other"],
+        "foreign_name": ["family", "other"],
+        "count_sets": ["family"],
+        "first_name_at": ["family", "n"],
+        "thing_of_all": ["family", "names"],
+        "thing_of_one": ["family", "names"],
+    },
+    writing: {
+        "write_family": ["family"],
+        "write_condition": ["condition"],
+    },
+    reading: {
+        "read_family": ["text"],
+        "read_condition": ["text"],
+    },
 }
+# For each class: the arguments that make one, its properties, and its methods with their arguments.
+CLASSES = {
+    (telling, "Teller"): (["family", "name"], ["target", "told"], {"tell": ["guess"]}),
+    (once, "OnceTeller"): (["family", "name"], ["target", "told"], {"tell": ["guess"]}),
+    (listening, "Listener"): (
+        ["family"], ["guess", "changes", "heard"], {"hear": ["thing"], "pause": [], "hear_all": ["steps"], "undo": []},
+    ),
+    (doubling, "DoubleListener"): (["family"], ["guess", "changes", "heard"], {"hear": ["thing", "there"], "undo": []}),
+}
+ERRORS = ("NoFamily", "NoWord", "NoCondition", "HasBound", "Clash", "BadText")
 
 
 def sources():
@@ -163,6 +199,22 @@ class TestInterface(unittest.TestCase):
                 function = getattr(module, name)
                 self.assertEqual(list(inspect.signature(function).parameters), arguments, name)
                 self.assertEqual(function.__module__, module.__name__, name)
+
+    def test_classes(self):
+        for (module, name), (arguments, properties, methods) in CLASSES.items():
+            own = vars(getattr(module, name))
+            self.assertEqual(getattr(module, name).__module__, module.__name__)
+            self.assertEqual(list(inspect.signature(getattr(module, name)).parameters), arguments, name)
+            for prop in properties:
+                self.assertIsInstance(own[prop], property, (name, prop))
+            for method, told in methods.items():
+                self.assertEqual(list(inspect.signature(own[method]).parameters), ["self"] + told, (name, method))
+
+    def test_errors(self):
+        self.assertEqual(errors.GuessError.__bases__, (ValueError,))
+        for name in ERRORS:
+            self.assertEqual(getattr(errors, name).__bases__, (errors.GuessError,))
+            self.assertEqual(getattr(errors, name).__module__, "guessrests.errors")
 
 
 if __name__ == "__main__":

@@ -6,7 +6,7 @@ from guessrests.joining import both_hold, either_holds
 from guessrests.meeting import least_name_meeting, names_meeting
 from guessrests.names import least_new_thing
 from guessrests.ordering import least_word
-from guessrests.relations import opposite_relation
+from guessrests.relations import NOTHING, opposite_relation, plain_relation
 from guessrests.searching import least_row_without
 from guessrests.sure import is_sure
 from guessrests.traps import NAME, OTHER, names_above, names_below
@@ -14,7 +14,7 @@ from guessrests.values import value_of
 from guessrests.words import number_of
 
 # How many names are tried one by one before all of them are looked at together.
-_TRIES = 10
+_TRIES = 4
 
 
 def guess(family, things):
@@ -85,19 +85,28 @@ class Guesser:
 
     def _least_of(self, holders, told):
         """Return the least of these names that is a guess for the told things, or None."""
-        if self.below is None:
-            self.below = names_below(self.family)
         guesses = []
-        # If a length is a bound, and the name has just the told things up to it, then these are the
-        # same up to the greatest length of a told thing that is not greater: it is a bound, too.
-        for n in sorted(set([0] + [len(thing) for thing in told])):
+        done = plain_relation(NOTHING)
+        # What is a trap for a length is one for each length with just the same told things, so
+        # the lengths of the told things are enough, and of those that fit a name the greatest one.
+        for n in sorted(set([0] + [len(thing) for thing in told]), reverse=True):
             things = _things_up_to(told, n)
             fitting = both_hold(holders, self._names_with_just(things, n))
-            caught = both_hold(self.below, names_meeting(self.family, OTHER, Demands(self.family[1], things, [])))
-            word = least_row_without(either_holds(caught, opposite_relation(fitting)), OTHER)
-            if word is not None:
-                guesses.append(value_of(self.family, "name", word))
+            name = self._least_without_trap(both_hold(fitting, opposite_relation(done)), things)
+            done = fitting
+            if name is not None:
+                guesses.append(name)
         return min(guesses, key=lambda name: number_of(self.family[0], name), default=None)
+
+    def _least_without_trap(self, names, things):
+        """Return the least of the names within which no unlike name lies to which the things belong, or None."""
+        if names.start == NOTHING:
+            return None
+        if self.below is None:
+            self.below = names_below(self.family)
+        traps = both_hold(self.below, names_meeting(self.family, OTHER, Demands(self.family[1], things, [])))
+        word = least_row_without(either_holds(traps, opposite_relation(names)), OTHER)
+        return value_of(self.family, "name", word)
 
 
 def _things_up_to(things, n):

@@ -43,7 +43,8 @@ def least_row_without(relation, track):
     if len(relation.tracks) == 1:
         return None if accepting_alone(relation, 0)[relation.start] else []
     choices = Choices(relation, track)
-    most = first_try(relation)
+    # A search through many sets compares each with many others, and the endings may be few.
+    most = first_try(relation) // GROWTH
     while True:
         search = Search(choices, most)
         if search.is_over:

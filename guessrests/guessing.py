@@ -96,7 +96,7 @@ class Guesser:
             done = fitting
             if name is not None:
                 guesses.append(name)
-        return min(guesses, key=lambda name: number_of(self.family[0], name), default=None)
+        return min(guesses, key=lambda word: number_of(self.family[0], word), default=None)
 
     def _least_without_trap(self, names, things):
         """Return the least of the names within which no unlike name lies to which the things belong, or None."""

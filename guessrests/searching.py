@@ -5,6 +5,10 @@ from guessrests.ordering import least_word, way_to
 from guessrests.projecting import GROWTH, first_try, relation_by_endings, some_word
 from guessrests.relations import is_plain, opposite_relation
 
+# How many sets are tried at first, besides one for some states. Each is compared with many others.
+_FEW = 300
+_STATES_FOR_ONE = 8
+
 
 def least_row_with(relation, track):
     """Return the columns of the least row of the other words with which the relation holds for some word on the track.
@@ -43,15 +47,16 @@ def least_row_without(relation, track):
     if len(relation.tracks) == 1:
         return None if accepting_alone(relation, 0)[relation.start] else []
     choices = Choices(relation, track)
-    # A search through many sets compares each with many others, and the endings may be few.
-    most = first_try(relation) // GROWTH
+    few = _FEW + len(relation.rows) // _STATES_FOR_ONE
+    most = first_try(relation)
     while True:
-        search = Search(choices, most)
+        search = Search(choices, few)
         if search.is_over:
             return search.columns
-        joined = relation_by_endings(choices, most * GROWTH)
+        joined = relation_by_endings(choices, most)
         if joined is not None:
             return least_word(opposite_relation(joined))
+        few *= GROWTH
         most *= GROWTH
 
 

@@ -89,7 +89,8 @@ class Guesser:
         done = plain_relation(NOTHING)
         # What is a trap for a length is one for each length with just the same told things, so
         # the lengths of the told things are enough, and of those that fit a name the greatest one.
-        for n in sorted(set([0] + [len(thing) for thing in told]), reverse=True):
+        lengths = sorted(set([0] + [len(thing) for thing in told]))
+        for n in reversed(lengths):
             things = _things_up_to(told, n)
             fitting = both_hold(holders, self._names_with_just(things, n))
             name = self._least_without_trap(both_hold(fitting, opposite_relation(done)), things)
